@@ -1,0 +1,1 @@
+"""Numbers dealt without gaps: houses, their books and the holes in them."""
