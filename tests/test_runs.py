@@ -225,12 +225,12 @@ class FallTest(unittest.TestCase):
                 for call in [open_numbers_of, rests_of, pool_of, book_of, lost_of, pending_of, holes_of] + INTEGERS:
                     self.assertEqual(call(scheme, 2, longer), call(scheme, 2, weaving))
                 self.assertEqual(numbers_along(scheme, 2, longer), numbers_along(scheme, 2, weaving) + [None])
-                later = longer + [("take", 0)]
-                self.assertEqual(numbers_along(scheme, 2, later)[-1], numbers_along(scheme, 2, weaving + later[-1:])[-1])
+                later = numbers_along(scheme, 2, longer + [("take", 0)])
+                self.assertEqual(later[-1], numbers_along(scheme, 2, weaving + [("take", 0)])[-1])
 
     def test_800_falls(self):
         for scheme in SCHEMES:
-            weaving = [("fall", index - 1 - (index - 1) // 20 * 20) for index in range(1, 801)]
+            weaving = [("fall", house) for house in range(20)] * 40
             self.assertEqual(numbers_along(scheme, 20, weaving), [None] * 800)
             self.assertEqual(frontier_of(scheme, 20, weaving), 0)
 
