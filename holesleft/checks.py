@@ -1,9 +1,10 @@
 """What several modules ask of their arguments."""
 
-from holesleft.errors import InvalidHouses, InvalidNumber, InvalidWeaving
+from holesleft.errors import InvalidHouses, InvalidNumber, InvalidNumbers, InvalidSize, InvalidWeaving
 
 MOST_HOUSES = 20
 MOST_EVENTS = 800
+MOST_NUMBERS = 200
 GREATEST_SIZE = 10 ** 30 - 1
 EVENT_WORDS = ("take", "end", "fail", "fall")
 
@@ -17,6 +18,11 @@ def is_integer(value):
 def is_within(value, least, greatest):
     """Tell whether a value is an integer from least to greatest."""
     return is_integer(value) and least <= value <= greatest
+
+
+def is_natural(value):
+    """Tell whether a value is an integer from 0 on."""
+    return is_integer(value) and value >= 0
 
 
 def is_size(value):
@@ -59,6 +65,16 @@ def is_event_list(value):
     return isinstance(value, list) and len(value) <= MOST_EVENTS
 
 
+def is_short_list(value):
+    """Tell whether a value is a list that is short enough for numbers."""
+    return isinstance(value, list) and len(value) <= MOST_NUMBERS
+
+
+def is_number_list(value):
+    """Tell whether a value is a list of numbers throughout."""
+    return is_short_list(value) and all([is_natural(item) for item in value])
+
+
 def check_houses(houses):
     """Raise InvalidHouses unless this is a number of houses."""
     if not is_within(houses, 1, MOST_HOUSES):
@@ -72,6 +88,33 @@ def check_weaving(houses, weaving):
     fault = weaving_fault(houses, weaving)
     if fault is not None:
         raise InvalidWeaving(fault)
+
+
+def check_size(size):
+    """Raise InvalidSize unless this is a size of lots."""
+    if not is_size(size):
+        raise InvalidSize("size: an integer from 1 to 10 ** 30 - 1 is needed")
+
+
+def check_numbers(numbers):
+    """Raise InvalidNumbers unless this is a list of numbers."""
+    if not is_short_list(numbers):
+        raise InvalidNumbers(None)
+    for index, number in enumerate(numbers):
+        if not is_natural(number):
+            raise InvalidNumbers(index)
+
+
+def check_within(value, least, greatest):
+    """Raise InvalidNumber unless this is an integer from least to greatest."""
+    if not is_within(value, least, greatest):
+        raise InvalidNumber(f"an integer from {least} to {greatest} is needed")
+
+
+def check_natural(value):
+    """Raise InvalidNumber unless this is an integer from 0 on."""
+    if not is_natural(value):
+        raise InvalidNumber("an integer from 0 on is needed")
 
 
 def check_house_number(houses, house):

@@ -117,6 +117,13 @@ class LotDealing(Dealing):
         """Return a list with the stretch of the pending numbers of the lot of each house, or None."""
         return list(self.rests)
 
+    def amount_ahead(self, house):
+        """Return how many numbers would be unsettled below the next lot if the house takes it now, None if not."""
+        if self.rests[house] is not None:
+            return None
+        # All numbers below the frontier that are not settled are pending or lost.
+        return self.first_undealt() - len(self.settled)
+
 
 class PoolDealing(Dealing):
     """Numbers are dealt one by one; failed ones wait in a pool."""
@@ -173,6 +180,12 @@ class PoolDealing(Dealing):
         """Return a list with the number of the open deed of each house, as a stretch, or None."""
         return [None if number is None else (number, number) for number in self.in_hand]
 
+    def amount_ahead(self, house):
+        """Return how many deeds are open if a house without one would be dealt the frontier now, None if not."""
+        if self.pooled:
+            return None
+        return len([number for number in self.in_hand if number is not None])
+
 
 def new_dealing(scheme, houses):
     """Return the dealing of these houses before all events."""
@@ -182,6 +195,14 @@ def new_dealing(scheme, houses):
     if kind == "pool":
         return PoolDealing(houses, scheme[1])
     return LotDealing(houses, scheme[1], kind == "again")
+
+
+def dealing_behind(scheme, houses, weaving):
+    """Return the dealing of these houses behind all events of a weaving."""
+    dealing = new_dealing(scheme, houses)
+    for event in weaving:
+        happen(dealing, event)
+    return dealing
 
 
 def happen(dealing, event):

@@ -1,7 +1,7 @@
 """What a weaving brings about under a scheme: its book, its open, lost and pending numbers, its holes."""
 
 from holesleft.checks import check_houses, check_weaving
-from holesleft.dealing import happen, new_dealing
+from holesleft.dealing import dealing_behind, happen, new_dealing
 from holesleft.schemes import check_scheme
 from holesleft.stretches import gaps, joined
 
@@ -12,12 +12,9 @@ def _check_run(scheme, houses, weaving):
     check_weaving(houses, weaving)
 
 
-def _dealing_behind(scheme, houses, weaving):
+def _checked_dealing(scheme, houses, weaving):
     _check_run(scheme, houses, weaving)
-    dealing = new_dealing(scheme, houses)
-    for event in weaving:
-        happen(dealing, event)
-    return dealing
+    return dealing_behind(scheme, houses, weaving)
 
 
 def numbers_along(scheme, houses, weaving):
@@ -29,37 +26,37 @@ def numbers_along(scheme, houses, weaving):
 
 def book_of(scheme, houses, weaving):
     """Return the settled numbers, in the sequence of the ends."""
-    return list(_dealing_behind(scheme, houses, weaving).settled)
+    return list(_checked_dealing(scheme, houses, weaving).settled)
 
 
 def open_numbers_of(scheme, houses, weaving):
     """Return a list with the number of the open deed of each house, or None."""
-    return list(_dealing_behind(scheme, houses, weaving).in_hand)
+    return list(_checked_dealing(scheme, houses, weaving).in_hand)
 
 
 def rests_of(scheme, houses, weaving):
     """Return a list with the stretch of the pending numbers that each house keeps, or None."""
-    return _dealing_behind(scheme, houses, weaving).kept_parts()
+    return _checked_dealing(scheme, houses, weaving).kept_parts()
 
 
 def pool_of(scheme, houses, weaving):
     """Return the numbers in the pool, in the sequence in which takes would deal them."""
-    return list(_dealing_behind(scheme, houses, weaving).pooled)
+    return list(_checked_dealing(scheme, houses, weaving).pooled)
 
 
 def frontier_of(scheme, houses, weaving):
     """Return the least number that was never dealt, kept or lost in a lot that a house has taken."""
-    return _dealing_behind(scheme, houses, weaving).first_undealt()
+    return _checked_dealing(scheme, houses, weaving).first_undealt()
 
 
 def lost_of(scheme, houses, weaving):
     """Return the stretches of the lost numbers."""
-    return joined(_dealing_behind(scheme, houses, weaving).lost_parts)
+    return joined(_checked_dealing(scheme, houses, weaving).lost_parts)
 
 
 def pending_of(scheme, houses, weaving):
     """Return the stretches of the pending numbers."""
-    dealing = _dealing_behind(scheme, houses, weaving)
+    dealing = _checked_dealing(scheme, houses, weaving)
     parts = [part for part in dealing.kept_parts() if part is not None]
     parts.extend([(number, number) for number in dealing.pooled])
     return joined(parts)
@@ -67,12 +64,12 @@ def pending_of(scheme, houses, weaving):
 
 def holes_of(scheme, houses, weaving):
     """Return the stretches of the holes."""
-    return gaps(_dealing_behind(scheme, houses, weaving).settled)
+    return gaps(_checked_dealing(scheme, houses, weaving).settled)
 
 
 def count_holes(scheme, houses, weaving):
     """Return the number of holes."""
-    return _dealing_behind(scheme, houses, weaving).many_holes()
+    return _checked_dealing(scheme, houses, weaving).many_holes()
 
 
 def holes_along(scheme, houses, weaving):

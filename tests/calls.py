@@ -2,6 +2,10 @@
 
 import copy
 import inspect
+import itertools
+
+from holesleft.runs import book_of
+from holesleft.schemes import is_weaving
 
 
 def check_error(test, kind, call, arguments, **fields):
@@ -42,3 +46,38 @@ def check_new_list(test, call, arguments, by_name):
     first.reverse()
     test.assertEqual(call(*arguments), second)
     test.assertEqual(arguments, kept)
+
+
+def check_first_wrong(test, call, rights, wrongs):
+    """Check that the first wrong argument tells, for all ways to choose which ones are wrong.
+
+    For each argument, wrongs has a tuple (wrong value, class of the error, its fields).
+    """
+    for chosen in itertools.product([False, True], repeat=len(rights)):
+        if any(chosen):
+            arguments = tuple(wrong[0] if bad else right for bad, right, wrong in zip(chosen, rights, wrongs))
+            _, kind, fields = wrongs[chosen.index(True)]
+            check_error(test, kind, call, arguments, **fields)
+    call(*rights)
+
+
+def check_integer(test, call, by_name, expected):
+    """Check that a call, by position and by name, returns this integer, and changes no argument."""
+    kept = copy.deepcopy(by_name)
+    for found in [call(*by_name.values()), call(**by_name)]:
+        test.assertIs(found.__class__, expected.__class__, (call.__name__, by_name))
+        test.assertEqual(found, expected, (call.__name__, by_name))
+    test.assertEqual(by_name, kept)
+
+
+def count_words(weaving):
+    """Return how many takes, ends, fails and falls a weaving has."""
+    return {word: len([event for event in weaving if event[0] == word]) for word in ("take", "end", "fail", "fall")}
+
+
+def check_settles(test, scheme, houses, weaving, numbers):
+    """Check that a returned value is a weaving with this book, and return the counts of its words."""
+    test.assertIs(weaving.__class__, list)
+    test.assertTrue(is_weaving(houses, weaving), (scheme, houses, numbers))
+    test.assertEqual(book_of(scheme, houses, weaving), numbers, (scheme, houses))
+    return count_words(weaving)

@@ -1,7 +1,10 @@
-"""The examples of DOC.md [12] and [14], as printed there."""
+"""The examples of DOC.md [12], [14], [15], [17], [19] and [22], as printed there, and those of README.md."""
 
 import doctest
+import os
 import unittest
+
+README = os.path.join(os.path.dirname(os.path.dirname(os.path.abspath(__file__))), "README.md")
 
 EXAMPLES = {
     "point 12": """
@@ -31,18 +34,70 @@ EXAMPLES = {
 >>> [pending_of(("again", 2), 2, W), holes_along(("again", 2), 2, W), pool_of(("pool", "least"), 2, W[:4])]
 [[(1, 1), (3, 3)], [0, 0, 2, 2, 2, 1], [0]]
 """,
+    "point 15": """
+>>> from holesleft.books import book_fault, is_book, least_houses, lots_heard
+>>> [is_book(("again", 2), 2, [2, 0, 1, 3]), is_book(("again", 2), 2, [4]), book_fault(("again", 2), 2, [2, 1])]
+[True, False, 1]
+>>> [least_houses(("again", 2), [4, 0]), least_houses(("lost", 1), [2, 0, 1]), is_book(("lost", 2), 1, [1, 5])]
+[3, 3, True]
+>>> [is_book(("pool", order), 2, [1, 0, 3, 2]) for order in ["least", "newest"]]
+[True, True]
+>>> [lots_heard(2, [4, 0, 3, 1]), least_houses(("late",), [0, 1]), least_houses(("late",), [1, 0])]
+[[2, 0, 1, 0], 1, None]
+""",
+    "point 17": """
+>>> from holesleft.words import book_index, book_of_digits, count_books, count_by_holes, count_full
+>>> from holesleft.words import digits_of, next_numbers, nth_book
+>>> [digits_of(2, [2, 0, 1, 3]), book_of_digits(2, [1, 0, 0, 0]), next_numbers(2, 2, [2])]
+[[1, 0, 0, 0], [2, 0, 1, 3], [0, 3]]
+>>> [nth_book(2, 2, 4, 8), book_index(2, 2, [2, 0, 1, 3]), count_books(3, 4)]
+[[2, 0, 1, 3], 8, 81]
+>>> [count_by_holes(2, 3), count_by_holes(3, 2), count_full(1, 2, 3), count_full(2, 2, 2)]
+[[4, 4], [2, 4, 3], 4, 6]
+""",
+    "point 19": """
+>>> from holesleft.falls import fewest_fails, fewest_falls, heard_along, houses_and_falls, unfinished_along
+>>> [unfinished_along(2, [4, 0]), heard_along(2, [4, 0]), houses_and_falls(2, [4, 0])]
+[[3, 3], [2, 1], [(2, 1), (3, 0)]]
+>>> [fewest_falls(2, houses, [4, 0]) for houses in [1, 2, 3, 20]]
+[None, 1, 0, 0]
+>>> [fewest_fails(2, 1, [1, 5]), fewest_fails(2, 2, [1, 5]), houses_and_falls(3, [])]
+[4, 2, [(1, 0)]]
+""",
+    "point 22": """
+>>> from holesleft.risks import first_refused, fullest_weaving, kept_weaving, most_holes, refused_along, risk_of, worst_ending
+>>> [most_holes(("again", 3), 4, 0, 0), most_holes(("lost", 2), 3, 5, 1), most_holes(("pool", "oldest"), 4, 9, 9)]
+[9, 11, 3]
+>>> [risk_of(("again", 2), 2, [("take", 0), ("take", 1)]), risk_of(("pool", "least"), 3, [("take", 2), ("fail", 2)])]
+[2, 0]
+>>> W = [("take", 0), ("take", 1), ("end", 1), ("end", 0), ("take", 1), ("end", 1)]
+>>> [refused_along((("again", 2), 1), 2, W), kept_weaving((("again", 2), 1), 2, W)]
+[[1], [('take', 0), ('end', 0), ('take', 1), ('end', 1)]]
+>>> [refused_along((("again", 2), None), 2, W), first_refused((("pool", "least"), 0), 2, W)]
+[[], 1]
+""",
 }
 
 
 class ExamplesTest(unittest.TestCase):
+    def check(self, name, text):
+        test = doctest.DocTestParser().get_doctest(text, {}, name, None, 0)
+        told = []
+        result = doctest.DocTestRunner(verbose=False).run(test, out=told.append)
+        self.assertEqual(result.failed, 0, "".join(told))
+        self.assertEqual(result.attempted, text.count(">>>"))
+
     def test_the_examples_answer_as_printed(self):
         for name, text in EXAMPLES.items():
             with self.subTest(name):
-                test = doctest.DocTestParser().get_doctest(text, {}, name, None, 0)
-                told = []
-                result = doctest.DocTestRunner(verbose=False).run(test, out=told.append)
-                self.assertEqual(result.failed, 0, "".join(told))
-                self.assertEqual(result.attempted, text.count(">>>"))
+                self.check(name, text)
+
+    def test_the_examples_of_the_readme(self):
+        with open(README, encoding="utf-8") as file:
+            blocks = [block for block in file.read().split("```")[1::2] if ">>>" in block]
+        self.assertEqual(len(blocks), 3)
+        for block in blocks:
+            self.check("README.md", block)
 
 
 if __name__ == "__main__":

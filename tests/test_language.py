@@ -1,6 +1,7 @@
 """Some of the rules for the files of the package that a short test can see."""
 
 import ast
+import builtins
 import inspect
 import os
 import re
@@ -73,7 +74,8 @@ class LanguageTest(unittest.TestCase):
                     self.assertIsNone(re.search(BARRED_WORDS, node.value), name)
 
     def test_builtins(self):
-        known = set(dir(__builtins__) if not isinstance(__builtins__, dict) else __builtins__)
+        # Doctests leave a builtin called _ behind.
+        known = set(dir(builtins)) - {"_"}
         for name, tree in trees():
             for node in ast.walk(tree):
                 if isinstance(node, ast.Name) and node.id in known:
@@ -81,6 +83,50 @@ class LanguageTest(unittest.TestCase):
                     self.assertIn(node.id, BUILTINS, name)
                 if isinstance(node, (ast.FunctionDef, ast.arg)):
                     self.assertNotIn(getattr(node, "name", None) or getattr(node, "arg", None), known, name)
+
+    def test_no_name_hides_an_import_or_a_class(self):
+        for name, tree in trees():
+            kept = [alias.name for node in ast.walk(tree) if isinstance(node, ast.ImportFrom) for alias in node.names]
+            kept += [node.name for node in ast.walk(tree) if isinstance(node, ast.ClassDef)]
+            self.assertEqual(len(kept), len(set(kept)), name)
+            for node in ast.walk(tree):
+                if isinstance(node, ast.arg):
+                    self.assertNotIn(node.arg, kept, name)
+                if isinstance(node, ast.Name) and not isinstance(node.ctx, ast.Load):
+                    self.assertNotIn(node.id, kept, name)
+
+    def test_imports_are_used_and_make_no_ring(self):
+        needs = {}
+        for name, tree in trees():
+            read = {node.id for node in ast.walk(tree) if isinstance(node, ast.Name)}
+            needs[name[:-3]] = set()
+            for node in ast.walk(tree):
+                if isinstance(node, ast.ImportFrom):
+                    self.assertLessEqual({alias.name for alias in node.names}, read, name)
+                    needs[name[:-3]].add(node.module.split(".")[-1])
+        while needs:
+            free = [name for name, others in needs.items() if not others & set(needs)]
+            self.assertTrue(free, needs)
+            for name in free:
+                del needs[name]
+
+    def test_methods_and_attributes_have_different_names(self):
+        for name, tree in trees():
+            for node in ast.walk(tree):
+                if isinstance(node, ast.ClassDef):
+                    methods = [item.name for item in node.body if isinstance(item, ast.FunctionDef)]
+                    self.assertEqual(len(methods), len(set(methods)), (name, node.name))
+                    stored = {item.attr for item in ast.walk(node)
+                              if isinstance(item, ast.Attribute) and isinstance(item.ctx, ast.Store)}
+                    self.assertFalse(stored & set(methods), (name, node.name))
+
+    def test_exponents_and_is(self):
+        for name, tree in trees():
+            for node in ast.walk(tree):
+                if isinstance(node, ast.BinOp) and isinstance(node.op, ast.Pow):
+                    self.assertIsInstance(node.right, ast.Constant, name)
+                if isinstance(node, ast.Compare) and isinstance(node.ops[0], (ast.Is, ast.IsNot)):
+                    self.assertIn(getattr(node.comparators[0], "value", 0), (None, True, False), name)
 
     def test_forms(self):
         barred = (ast.AsyncFunctionDef, ast.Await, ast.AsyncFor, ast.AsyncWith, ast.Div)

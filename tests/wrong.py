@@ -45,3 +45,27 @@ WRONG_SCHEMES.extend([Odd(), (Odd(),), (Odd(), 2), ("pool", Odd()), ("lost", Odd
 WRONG_HOUSES.append(Odd())
 NO_EVENTS.extend([Odd(), (Odd(), 0), ("take", Odd()), ("fall", Odd())])
 NO_LISTS.append(Odd())
+
+WRONG_SIZES = [
+    0, -1, HUGE + 1, 10 ** 60, -10 ** 60, True, False, None, "2", "", b"2", 2.0, [2], (2,), {}, object(), Odd(),
+]
+
+# Values of which none is a list of at most 200 items.
+NO_NUMBER_LISTS = [
+    None, True, False, 0, 5, "", "01", b"", b"01", (), (0, 1), {}, {0: 1}, range(0), range(2), set(), {0}, iter([0]),
+    1.5, object(), Odd(), list(range(201)), [0] * 201, [None] * 201,
+]
+
+# Values of which none is an integer from 0 on.
+NO_NUMBERS = [
+    None, True, False, -1, -2, -10 ** 40, "0", "", b"0", 0.0, 1.5, [], [0], (), (0,), {}, object(), Odd(),
+]
+
+WRONG_RULES = [
+    None, True, 0, "late", [], {}, (), (None,), ("late",), (("late",),), (("late",), None, None),
+    [("late",), None], (["late"], None), (("lost",), None), (("again", 0), 1), (("again", True), 1),
+    (("pool", "last"), 1), ("again", 2), (None, None), (None, 1), (1, ("again", 2)), (("late",), 0), (("late",), 5),
+    (("lost", 2), 0), (("lost", 2), 7), (("late",), Odd()), (("lost", 1), Odd()), (Odd(), None), Odd(), object(),
+]
+WRONG_RULES.extend([(scheme, budget) for scheme in [("again", 2), ("pool", "least")]
+                    for budget in NO_NUMBERS if budget is not None])

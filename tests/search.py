@@ -1,0 +1,103 @@
+"""A slow search over all weavings, by the model, to hold small cases against.
+
+The houses are alike, so of the states that differ only in which house is which one is enough.
+"""
+
+import heapq
+import itertools
+
+from tests.model import Model
+
+
+def copied(model):
+    twin = Model(model.scheme, model.houses)
+    twin.open = dict(model.open)
+    twin.deeds = set(model.deeds)
+    twin.book = list(model.book)
+    twin.lost = set(model.lost)
+    twin.lots = {house: list(lot) for house, lot in model.lots.items()}
+    twin.lots_taken = model.lots_taken
+    twin.pool = list(model.pool)
+    twin.dealt = set(model.dealt)
+    return twin
+
+
+def state_of(model, sequence_counts):
+    houses = sorted(
+        (model.open.get(house, -1), house in model.deeds, tuple(model.lots.get(house, ())))
+        for house in range(model.houses)
+    )
+    book = tuple(model.book) if sequence_counts else frozenset(model.book)
+    return tuple(houses), book, frozenset(model.lost), model.lots_taken, tuple(model.pool), frozenset(model.dealt)
+
+
+def reached(start, words, price_of, goes_on, sequence_counts=True):
+    """Yield (price, model) with the least price for each state that events with these words reach.
+
+    The price is a tuple, so that fails and falls can be counted apart; then each price counts as another state.
+    """
+    ticket = itertools.count()
+    queue = [((0, 0), next(ticket), start)]
+    seen = set()
+    while queue:
+        price, _, model = heapq.heappop(queue)
+        state = state_of(model, sequence_counts)
+        if (state, price_of.get("both", False) and price) in seen:
+            continue
+        seen.add((state, price_of.get("both", False) and price))
+        yield price, model
+        for event in model.followers():
+            if event[0] in words:
+                later = copied(model)
+                later.happen(event)
+                paid = price_of.get(event[0], (0, 0))
+                total = (price[0] + paid[0], price[1] + paid[1])
+                if goes_on(later, total):
+                    heapq.heappush(queue, (total, next(ticket), later))
+
+
+def cheapest_books(scheme, houses, bound, length, words=("take", "end", "fail"), paid=None):
+    """Return the books of at most this length, with numbers below the bound, and how often the paid word is needed."""
+    def goes_on(model, _):
+        return model.frontier() <= bound and len(model.book) <= length
+
+    price_of = {paid: (1, 0)} if paid else {}
+    found = {}
+    for price, model in reached(Model(scheme, houses), words, price_of, goes_on):
+        found.setdefault(tuple(model.book), price[0])
+    return found
+
+
+def fewest_paid(scheme, houses, numbers, words, paid):
+    """Return how often the paid word is needed for just this book, None if no weaving has it."""
+    frontier = (max(numbers, default=-1) // scheme[1] + 1) * scheme[1]
+
+    def goes_on(model, _):
+        return model.frontier() <= frontier and model.book == numbers[:len(model.book)]
+
+    for price, model in reached(Model(scheme, houses), words, {paid: (1, 0)}, goes_on):
+        if model.book == numbers:
+            return price[0]
+    return None
+
+
+def greatest_holes(scheme, houses, fails, falls, bound):
+    """Return the greatest number of holes of the weavings with so many fails and falls, up to a frontier."""
+    def goes_on(model, price):
+        return model.frontier() <= bound and price[0] <= fails and price[1] <= falls
+
+    price_of = {"fail": (1, 0), "fall": (0, 1), "both": True}
+    words = ["take", "end"] + ["fail"] * (fails > 0) + ["fall"] * (falls > 0)
+    states = reached(Model(scheme, houses), words, price_of, goes_on, sequence_counts=False)
+    return max(len(model.holes()) for _, model in states)
+
+
+def greatest_risk(scheme, houses, weaving):
+    """Return the greatest number of holes that can follow while the frontier stays."""
+    model = Model(scheme, houses)
+    for event in weaving:
+        model.happen(event)
+    frontier = model.frontier()
+    words = ("take", "end", "fail", "fall")
+    states = reached(model, words, {}, lambda later, _: later.frontier() == frontier, sequence_counts=False)
+    return max(len(later.holes()) for _, later in states)
