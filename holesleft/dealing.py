@@ -215,3 +215,14 @@ def happen(dealing, event):
     if word == "fail":
         return dealing.fail(house)
     return dealing.fall(house)
+
+
+def next_pending(dealing):
+    """Return the pending numbers that can be settled next: of a lot only the first one."""
+    firsts = [part[0] for part in dealing.kept_parts() if part is not None]
+    return firsts + dealing.pooled
+
+
+def mark_of(dealing):
+    """Return the least pending number, or the frontier if none is pending."""
+    return min(next_pending(dealing), default=dealing.first_undealt())

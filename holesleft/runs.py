@@ -1,25 +1,18 @@
 """What a weaving brings about under a scheme: its book, its open, lost and pending numbers, its holes."""
 
-from holesleft.checks import check_houses, check_weaving
 from holesleft.dealing import dealing_behind, happen, new_dealing
-from holesleft.schemes import check_scheme
+from holesleft.schemes import check_run
 from holesleft.stretches import gaps, joined
 
 
-def _check_run(scheme, houses, weaving):
-    check_scheme(scheme)
-    check_houses(houses)
-    check_weaving(houses, weaving)
-
-
 def _checked_dealing(scheme, houses, weaving):
-    _check_run(scheme, houses, weaving)
+    check_run(scheme, houses, weaving)
     return dealing_behind(scheme, houses, weaving)
 
 
 def numbers_along(scheme, houses, weaving):
     """Return a list with the number that each event deals, settles or leaves, or None."""
-    _check_run(scheme, houses, weaving)
+    check_run(scheme, houses, weaving)
     dealing = new_dealing(scheme, houses)
     return [happen(dealing, event) for event in weaving]
 
@@ -74,7 +67,7 @@ def count_holes(scheme, houses, weaving):
 
 def holes_along(scheme, houses, weaving):
     """Return the list of the numbers of holes behind each event."""
-    _check_run(scheme, houses, weaving)
+    check_run(scheme, houses, weaving)
     dealing = new_dealing(scheme, houses)
     counts = []
     for event in weaving:

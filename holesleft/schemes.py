@@ -28,6 +28,13 @@ def check_scheme(value):
         raise InvalidScheme("a scheme is needed")
 
 
+def check_run(scheme, houses, weaving):
+    """Raise an error unless this is a scheme with houses and a weaving of them."""
+    check_scheme(scheme)
+    check_houses(houses)
+    check_weaving(houses, weaving)
+
+
 def is_weaving(houses, value):
     """Tell whether any value is a weaving of these houses."""
     check_houses(houses)

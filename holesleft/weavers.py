@@ -4,11 +4,11 @@ from holesleft.dealing import LotDealing, happen
 from holesleft.lots import last_places
 
 
-class LotWeaver:
-    """Writes a weaving of houses with lots, event by event, that settles numbers in a given sequence."""
+class Weaver:
+    """Writes a weaving, event by event."""
 
-    def __init__(self, houses, size, deals_again):
-        self.dealing = LotDealing(houses, size, deals_again)
+    def __init__(self, dealing):
+        self.dealing = dealing
         self.written = []
 
     def write(self, word, house):
@@ -16,6 +16,13 @@ class LotWeaver:
         event = (word, house)
         self.written.append(event)
         happen(self.dealing, event)
+
+
+class LotWeaver(Weaver):
+    """Writes a weaving of houses with lots that settles numbers in a given sequence."""
+
+    def __init__(self, houses, size, deals_again):
+        super().__init__(LotDealing(houses, size, deals_again))
 
     def lots_held(self):
         """Return a list with the lot of each house, None for a house without a lot."""

@@ -101,3 +101,51 @@ def greatest_risk(scheme, houses, weaving):
     words = ("take", "end", "fail", "fall")
     states = reached(model, words, {}, lambda later, _: later.frontier() == frontier, sequence_counts=False)
     return max(len(later.holes()) for _, later in states)
+
+
+def house_at(model, house):
+    return model.open.get(house, -1), house in model.deeds, tuple(model.lots.get(house, ()))
+
+
+def seen_lists(scheme, houses, bound, length):
+    """Return what house 0 can settle without falls: at most so many numbers, with a frontier up to a bound."""
+    start = Model(scheme, houses)
+    done = set()
+    found = set()
+    left = [(start, ())]
+    while left:
+        model, seen = left.pop()
+        others = sorted(house_at(model, house) for house in range(1, houses))
+        state = (house_at(model, 0), tuple(others), seen, model.frontier(), tuple(model.pool))
+        if state in done:
+            continue
+        done.add(state)
+        found.add(seen)
+        for event in model.followers():
+            if event[0] != "fall":
+                later = copied(model)
+                number = later.happen(event)
+                longer = (*seen, number) if event == ("end", 0) else seen
+                if later.frontier() <= bound and len(longer) <= length:
+                    left.append((later, longer))
+    return found
+
+
+def fewest_events_till_late(scheme, houses, distance, limit):
+    """Return how many events, up to a limit, it takes to settle a number so much less than one before, or None."""
+    layer = [Model(scheme, houses)]
+    done = set()
+    for many in range(1, limit + 1):
+        longer = []
+        for model in layer:
+            for event in model.followers():
+                later = copied(model)
+                number = later.happen(event)
+                if event[0] == "end" and max(later.book) - number >= distance:
+                    return many
+                state = state_of(later, False)
+                if event[0] != "fall" and state not in done:
+                    done.add(state)
+                    longer.append(later)
+        layer = longer
+    return None

@@ -1,4 +1,4 @@
-"""The examples of DOC.md [12], [14], [15], [17], [19] and [22], as printed there, and those of README.md."""
+"""The examples of DOC.md [12], [14], [15], [17], [19], [22], [24], [25] and [27], as printed there, and those of README.md."""
 
 import doctest
 import os
@@ -76,6 +76,30 @@ EXAMPLES = {
 >>> [refused_along((("again", 2), None), 2, W), first_refused((("pool", "least"), 0), 2, W)]
 [[], 1]
 """,
+    "point 24": """
+>>> from holesleft.readers import late_weaving, marks_along, missed_by, seen_below_marks
+>>> W = [("take", 0), ("take", 1), ("end", 1), ("end", 0)]
+>>> [marks_along(("again", 2), 2, W), missed_by(("again", 2), 2, W, [3, 4]), seen_below_marks(("again", 2), 2, W, [3, 4])]
+[[0, 0, 0, 0, 1], [0], [[], [0]]]
+>>> [late_weaving(("late",), 2, 1), late_weaving(("pool", "least"), 1, 1)]
+[None, None]
+""",
+    "point 25": """
+>>> from holesleft.sights import can_see, sight_fault
+>>> [can_see(("pool", "least"), 2, [5, 0]), can_see(("pool", "least"), 2, [5, 0, 1]), can_see(("late",), 2, [3, 7])]
+[True, False, True]
+>>> [can_see(("again", 2), 2, [0, 1, 4]), sight_fault(("again", 2), 2, [0, 4]), sight_fault(("lost", 2), 1, [1, 5, 5])]
+[True, 1, 2]
+""",
+    "point 27": """
+>>> from holesleft.compare import parting_book, same_books, sizes_that_fit
+>>> [same_books(("again", 5), 1, ("late",), 9), same_books(("pool", "least"), 3, ("again", 1), 3)]
+[True, True]
+>>> [parting_book(("again", 2), 3, ("again", 5), 2), parting_book(("lost", 2), 2, ("lost", 2), 3)]
+[[2], [4, 0, 2]]
+>>> [parting_book(("lost", 7), 1, ("again", 1), 4), sizes_that_fit([4, 0, 1, 5, 2], 12)]
+[[4], [1, 2, 4]]
+""",
 }
 
 
@@ -95,7 +119,7 @@ class ExamplesTest(unittest.TestCase):
     def test_the_examples_of_the_readme(self):
         with open(README, encoding="utf-8") as file:
             blocks = [block for block in file.read().split("```")[1::2] if ">>>" in block]
-        self.assertEqual(len(blocks), 3)
+        self.assertEqual(len(blocks), 4)
         for block in blocks:
             self.check("README.md", block)
 
