@@ -217,12 +217,12 @@ def happen(dealing, event):
     return dealing.fall(house)
 
 
-def next_pending(dealing):
-    """Return the pending numbers that can be settled next: of a lot only the first one."""
-    firsts = [part[0] for part in dealing.kept_parts() if part is not None]
-    return firsts + dealing.pooled
+def pending_parts(dealing):
+    """Return parts (first, last) of the pending numbers; of each only the first number can be settled next."""
+    kept = [part for part in dealing.kept_parts() if part is not None]
+    return kept + [(number, number) for number in dealing.pooled]
 
 
 def mark_of(dealing):
     """Return the least pending number, or the frontier if none is pending."""
-    return min(next_pending(dealing), default=dealing.first_undealt())
+    return min([first for first, _ in pending_parts(dealing)], default=dealing.first_undealt())

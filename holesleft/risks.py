@@ -1,7 +1,7 @@
 """How many holes there can be, and which takes a budget refuses."""
 
 from holesleft.checks import check_houses, check_natural, check_weaving
-from holesleft.dealing import dealing_behind, next_pending
+from holesleft.dealing import dealing_behind, pending_parts
 from holesleft.errors import InvalidScheme, TooLong
 from holesleft.rules import check_rule, follow_rule
 from holesleft.schemes import check_scheme
@@ -52,7 +52,7 @@ def _dealing_at_risk(scheme, houses, weaving):
 def _worst_number(dealing):
     """Return the number that leaves the most holes if it is settled next, -1 if there is none."""
     # Settled alone, the greatest one leaves the most holes.
-    return max(next_pending(dealing), default=-1)
+    return max([first for first, _ in pending_parts(dealing)], default=-1)
 
 
 def risk_of(scheme, houses, weaving):

@@ -1,6 +1,6 @@
 """What a weaving brings about under a scheme: its book, its open, lost and pending numbers, its holes."""
 
-from holesleft.dealing import dealing_behind, happen, new_dealing
+from holesleft.dealing import dealing_behind, happen, new_dealing, pending_parts
 from holesleft.schemes import check_run
 from holesleft.stretches import gaps, joined
 
@@ -49,10 +49,7 @@ def lost_of(scheme, houses, weaving):
 
 def pending_of(scheme, houses, weaving):
     """Return the stretches of the pending numbers."""
-    dealing = _checked_dealing(scheme, houses, weaving)
-    parts = [part for part in dealing.kept_parts() if part is not None]
-    parts.extend([(number, number) for number in dealing.pooled])
-    return joined(parts)
+    return joined(pending_parts(_checked_dealing(scheme, houses, weaving)))
 
 
 def holes_of(scheme, houses, weaving):

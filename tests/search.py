@@ -149,3 +149,53 @@ def fewest_events_till_late(scheme, houses, distance, limit):
                     longer.append(later)
         layer = longer
     return None
+
+
+def is_refused(model, budget, event):
+    """Tell whether an event is a take that the budget refuses, by the words of point 11."""
+    word, house = event
+    if word != "take" or budget is None:
+        return False
+    if model.kind == "pool":
+        return not model.pool and len(model.deeds) > budget
+    return house not in model.lots and len(model.pending()) + len(model.lost) > budget
+
+
+def breaks(model, wish, event, number):
+    """Tell whether a wish is broken by an event that has just happened."""
+    if wish == "early":
+        return event[0] == "take" and number is None
+    if wish == "full":
+        return len(model.holes()) > 0
+    if wish == "rest":
+        return len(model.holes()) > 0 and not model.deeds
+    if wish == "ascending":
+        return model.book != sorted(model.book)
+    return wish == "kept" and len(model.lost) > 0
+
+
+def fewest_events_to_break(rule, houses, falls, wish, limit):
+    """Return how many events, up to a limit, it takes to break a wish, or None."""
+    scheme, budget = rule
+    layer = [Model(scheme, houses)]
+    done = set()
+    for many in range(1, limit + 1):
+        longer = []
+        for model in layer:
+            for event in model.followers():
+                if event[0] == "fall" and not falls:
+                    continue
+                if is_refused(model, budget, event):
+                    if wish == "free":
+                        return many
+                    continue
+                later = copied(model)
+                number = later.happen(event)
+                if breaks(later, wish, event, number):
+                    return many
+                state = state_of(later, False)
+                if state not in done:
+                    done.add(state)
+                    longer.append(later)
+        layer = longer
+    return None

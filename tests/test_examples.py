@@ -1,8 +1,10 @@
-"""The examples of DOC.md [12], [14], [15], [17], [19], [22], [24], [25] and [27], as printed there, and those of README.md."""
+"""The examples of DOC.md [12] to [34], as printed there, and those of README.md."""
 
 import doctest
 import os
 import unittest
+
+from holesleft.errors import HolesError
 
 README = os.path.join(os.path.dirname(os.path.dirname(os.path.abspath(__file__))), "README.md")
 
@@ -100,12 +102,89 @@ EXAMPLES = {
 >>> [parting_book(("lost", 7), 1, ("again", 1), 4), sizes_that_fit([4, 0, 1, 5, 2], 12)]
 [[4], [1, 2, 4]]
 """,
+    "point 29": """
+>>> from holesleft.wishes import breaking_weaving, can_have, grants
+>>> [grants((("again", 2), 0), 3, False, wish) for wish in ["early", "full", "rest", "ascending", "kept", "free"]]
+[True, True, True, True, True, False]
+>>> [grants((("again", 2), None), 1, True, "full"), grants((("pool", "newest"), 4), 5, True, "free")]
+[False, True]
+>>> [breaking_weaving((("late",), None), 2, False, "early"), breaking_weaving((("lost", 4), None), 1, False, "kept")]
+[[('take', 0)], [('take', 0), ('fail', 0)]]
+>>> [can_have(["early", "free", "rest"], 2, False), can_have(["early", "full", "kept"], 2, True)]
+[False, True]
+""",
+    "point 32": """
+>>> from holesleft.desks import BudgetDesk, Desk, ReadingDesk
+>>> desk = Desk(("again", 2), 2)
+>>> [desk.take(0), desk.take(1), desk.end(1), desk.holes, desk.fail(0), desk.take(0), desk.mark]
+[0, 2, 2, [(0, 1)], None, 0, 0]
+>>> [desk.undo(), desk.open_numbers, desk.try_events(("take", 0), ("end", 0)), desk.book, len(desk)]
+[None, [None, None], [0, 0], [2], 4]
+>>> reader = ReadingDesk(("pool", "least"), 2)
+>>> [reader.take(0), reader.take(1), reader.end(1), reader.look(), reader.end(0), reader.look(), reader.missed]
+[0, 1, 1, [1], 0, [], [0]]
+>>> [reader.described(), reader.undo(), reader.undo(), reader.missed, len(reader)]
+[['settled 2', 'holes 0', 'missed 1'], None, None, [], 3]
+""",
+    "point 32, an error": """
+>>> from holesleft.desks import BudgetDesk
+>>> desk = BudgetDesk(("again", 2), 2, 1)
+>>> desk.take(0)
+0
+>>> desk.take(1)
+raises Refused(amount=2)
+""",
+    "point 33": """
+>>> from holesleft.texts import format_scheme, format_weaving, parse_numbers, parse_scheme, parse_weaving
+>>> [format_scheme(("again", 12)), parse_scheme("pool newest"), parse_numbers("2 0 1"), parse_numbers("")]
+['again 12', ('pool', 'newest'), [2, 0, 1], []]
+>>> [format_weaving(2, [("take", 0), ("take", 1), ("fall", 1)]), parse_weaving(2, "t1 e1")]
+['t0 t1 x1', [('take', 1), ('end', 1)]]
+""",
+    "point 33, an event that cannot follow": """
+>>> from holesleft.texts import parse_scheme, parse_weaving
+>>> parse_weaving(2, "t0 t1 t0")
+raises InvalidText(word=2)
+""",
+    "point 33, a word that is missing": """
+>>> from holesleft.texts import parse_scheme
+>>> parse_scheme("lost")
+raises InvalidText(word=1)
+""",
+    "point 34": """
+>>> from holesleft.console import Console
+>>> console = Console()
+>>> rows = ["desk 2 again 2", "t 0", "t 1", "e 1", "holes", "look", "e 0", "missed", "mark", "weaving", "undo", "book"]
+>>> [console.execute(row) for row in rows]
+['ok', '0', '2', '2', '0-1', '2', '0', '0', '1', 't0 t1 e1 e0', 'ok', '2']
+>>> [console.execute(row) for row in ["risk", "desk 2 1 pool least", "t 1", "lost", "f 1", "t 0", "weaving"]]
+['2', 'ok', '0', 'none', 'ok', '0', 't1 f1 t0']
+""",
 }
+
+
+def print_error(call):
+    """Print the error of a call as the document does."""
+    try:
+        call()
+    except HolesError as error:
+        fields = ", ".join(f"{name}={value!r}" for name, value in vars(error).items())
+        print(f"raises {error.__class__.__name__}({fields})")
+
+
+def with_errors_printed(text):
+    """Return examples in which each call that raises an error prints it."""
+    rows = text.split("\n")
+    for index, row in enumerate(rows):
+        if row.startswith("raises "):
+            rows[index - 1] = f">>> print_error(lambda: {rows[index - 1][4:]})"
+    return "\n".join(rows)
 
 
 class ExamplesTest(unittest.TestCase):
     def check(self, name, text):
-        test = doctest.DocTestParser().get_doctest(text, {}, name, None, 0)
+        names = {"print_error": print_error}
+        test = doctest.DocTestParser().get_doctest(with_errors_printed(text), names, name, None, 0)
         told = []
         result = doctest.DocTestRunner(verbose=False).run(test, out=told.append)
         self.assertEqual(result.failed, 0, "".join(told))
@@ -119,7 +198,7 @@ class ExamplesTest(unittest.TestCase):
     def test_the_examples_of_the_readme(self):
         with open(README, encoding="utf-8") as file:
             blocks = [block for block in file.read().split("```")[1::2] if ">>>" in block]
-        self.assertEqual(len(blocks), 4)
+        self.assertEqual(len(blocks), 6)
         for block in blocks:
             self.check("README.md", block)
 

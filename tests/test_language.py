@@ -13,8 +13,8 @@ FOLDER = os.path.dirname(holesleft.__file__)
 LIBRARY = {"heapq", "math", "itertools", "collections"}
 METHODS = {"__init__", "__eq__", "__repr__", "__str__", "__len__"}
 BUILTINS = set("""len range enumerate zip min max sum abs sorted reversed int str bool list tuple dict set isinstance
-    ord repr any all divmod super property ValueError KeyError ZeroDivisionError TypeError""".split())
-BARRED_NAMES = {"register", "mro", "elements", "open", "input", "law", "type", "id", "vars", "eval", "exec", "exit"}
+    ord repr any all divmod super property type ValueError KeyError ZeroDivisionError TypeError""".split())
+BARRED_NAMES = {"register", "mro", "elements", "open", "input", "law", "id", "vars", "eval", "exec", "exit"}
 BARRED_WORDS = r"\b(type|typing|enum|Enum|Flag|Generic|Protocol|ABC|namedtuple)\b|dataclass|overload|contextmanager"
 
 
@@ -126,7 +126,36 @@ class LanguageTest(unittest.TestCase):
                 if isinstance(node, ast.BinOp) and isinstance(node.op, ast.Pow):
                     self.assertIsInstance(node.right, ast.Constant, name)
                 if isinstance(node, ast.Compare) and isinstance(node.ops[0], (ast.Is, ast.IsNot)):
-                    self.assertIn(getattr(node.comparators[0], "value", 0), (None, True, False), name)
+                    if ast.unparse(node) != "type(self) is type(other)":
+                        self.assertIn(getattr(node.comparators[0], "value", 0), (None, True, False), name)
+
+    def test_type_stands_only_in_one_comparison(self):
+        found = 0
+        for name, tree in trees():
+            for node in ast.walk(tree):
+                if isinstance(node, ast.Compare) and ast.unparse(node) == "type(self) is type(other)":
+                    found += 2
+                if isinstance(node, ast.Name) and node.id == "type":
+                    found -= 1
+        self.assertEqual(found, 0)
+
+    def test_properties_and_what_tells_of_an_object_change_nothing(self):
+        changing = (ast.AugAssign, ast.Delete, ast.Yield, ast.Nonlocal)
+        for name, tree in trees():
+            for node in ast.walk(tree):
+                if isinstance(node, ast.FunctionDef) and (node.decorator_list or node.name in METHODS - {"__init__"}):
+                    self.assertIn([ast.unparse(item) for item in node.decorator_list], ([], ["property"]))
+                    for part in ast.walk(node):
+                        self.assertNotIsInstance(part, changing, name)
+                        if isinstance(part, (ast.Attribute, ast.Subscript)):
+                            self.assertIsInstance(part.ctx, ast.Load, name)
+
+    def test_what_stands_beside_an_own_equality(self):
+        for name, tree in trees():
+            for node in ast.walk(tree):
+                self.assertNotIsInstance(node, (ast.GeneratorExp, ast.Try, ast.Match), name)
+                if isinstance(node, ast.Attribute):
+                    self.assertNotEqual(node.attr, "sort", name)
 
     def test_forms(self):
         barred = (ast.AsyncFunctionDef, ast.Await, ast.AsyncFor, ast.AsyncWith, ast.Div)

@@ -69,3 +69,12 @@ WRONG_RULES = [
 ]
 WRONG_RULES.extend([(scheme, budget) for scheme in [("again", 2), ("pool", "least")]
                     for budget in NO_NUMBERS if budget is not None])
+
+# Words of which none is a number.
+NO_NUMBER_WORDS = [
+    "", "a", "-1", "+1", "-0", "00", "01", "007", "1.0", "1e3", "0x1", "1_0", "1,", "O", "l", "1a", "a1", "\n", "1\n", "\n1",
+    "\t1", "1\t2", "\u0663", "\u00b2", "\uff11", "1\u00a0", "none", "0" * 30, "1" * 31, "9" * 31, "0" + "1" * 30, "1" * 5000,
+]
+
+NO_STRINGS = [None, True, False, 0, 1, b"", b"late", b"0", [], ["late"], (), ("late",), {}, 1.5, object()]
+NO_STRINGS.append(Odd())
