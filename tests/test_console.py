@@ -128,7 +128,7 @@ class CommandsTest(ConsoleTest):
         console.execute("t 1")
         console.execute("e 1")
         self.assertEqual([console.execute("holes"), console.execute("x 1")], ["0-2 5", "ok"])
-        self.assertEqual([console.execute("lost"), console.execute("x 0"), console.execute("lost")], ["5", "ok", "0-2 5"])
+        self.assertEqual([console.execute(word) for word in ["lost", "x 0", "lost"]], ["5", "ok", "0-2 5"])
         self.assertEqual(console.execute("book"), "3 6 7 8 4")
 
     def test_undo_and_looks(self):
@@ -206,10 +206,11 @@ class NewDeskTest(ConsoleTest):
 
     def test_no_commands(self):
         console = console_behind(*PLAIN)
-        rows = ["desk", "desk 2", "desk ", "desk  ", "desk 2 ", "desk  2 late", "desk 2  late", "desk 2 late ", " desk 2 late",
-                "desk 2 again  2", "desk x late", "desk late 2", "desk late", "Desk 2 late", "desk\n2 late", "desks 2 late",
-                "desk 2 5 ", "desk 2 5  late", "desk 2\nlate"]
-        rows += [f"desk {word} late" for word in NO_NUMBER_WORDS] + [f"desk {word} 5 again 2" for word in NO_NUMBER_WORDS]
+        rows = ["desk", "desk 2", "desk ", "desk  ", "desk 2 ", "desk  2 late", "desk 2  late", "desk 2 late ",
+                " desk 2 late", "desk 2 again  2", "desk x late", "desk late 2", "desk late", "Desk 2 late",
+                "desk\n2 late", "desks 2 late", "desk 2 5 ", "desk 2 5  late", "desk 2\nlate"]
+        for text in ["late", "5 again 2"]:
+            rows += [f"desk {word} {text}" for word in NO_NUMBER_WORDS]
         for command in rows:
             self.check_raises(console, command, InvalidCommand)
             check_error(self, InvalidCommand, Console().execute, (command,))
@@ -226,7 +227,8 @@ class ErrorsTest(ConsoleTest):
         for command in ASKED + ["t 0", "e 0", "f 0", "x 0", "t 99", "", "t", "nothing"]:
             check_error(self, InvalidCommand, console.execute, (command,))
         # A desk that is not made leaves none.
-        for command, kind in [("desk 0 late", InvalidHouses), ("desk 2 x", InvalidText), ("desk 2 5 late", InvalidScheme)]:
+        wrong = {"desk 0 late": InvalidHouses, "desk 2 x": InvalidText, "desk 2 5 late": InvalidScheme}
+        for command, kind in wrong.items():
             check_error(self, kind, console.execute, (command,))
             check_error(self, InvalidCommand, console.execute, ("book",))
         self.assertEqual(console.execute("desk 2 late"), "ok")
@@ -240,8 +242,8 @@ class ErrorsTest(ConsoleTest):
             for command in rows:
                 self.check_raises(console, command, InvalidCommand)
         for letter in WITH_HOUSE:
-            rows = [letter, letter + " ", letter + "  0", letter + " 0 ", " " + letter + " 0", letter + "0", letter + " 0 0",
-                    letter.upper() + " 0", letter + letter + " 0", letter + " x", "0 " + letter, letter + " 0 1",
+            rows = [letter, letter + " ", letter + "  0", letter + " 0 ", " " + letter + " 0", letter + "0",
+                    letter + " 0 0", letter.upper() + " 0", letter + letter + " 0", letter + " x", "0 " + letter, letter + " 0 1",
                     letter + "\n0", letter + " 0\n", WITH_HOUSE[letter] + " 0"]
             for command in rows + [f"{letter} {word}" for word in NO_NUMBER_WORDS]:
                 self.check_raises(console, command, InvalidCommand)

@@ -131,7 +131,7 @@ class LanguageTest(unittest.TestCase):
 
     def test_type_stands_only_in_one_comparison(self):
         found = 0
-        for name, tree in trees():
+        for _, tree in trees():
             for node in ast.walk(tree):
                 if isinstance(node, ast.Compare) and ast.unparse(node) == "type(self) is type(other)":
                     found += 2

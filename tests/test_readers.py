@@ -297,7 +297,8 @@ class ErrorsTest(unittest.TestCase):
                     check_error(self, InvalidNumber, late_weaving, (scheme, houses, distance))
 
     def test_the_first_wrong_argument_tells(self):
-        wrongs = [(("late", 1), InvalidScheme, {}), (True, InvalidHouses, {}), ([("end", 0)], InvalidWeaving, {"index": 0})]
+        wrongs = [(("late", 1), InvalidScheme, {}), (True, InvalidHouses, {}),
+                  ([("end", 0)], InvalidWeaving, {"index": 0})]
         check_first_wrong(self, marks_along, (("again", 2), 2, W), wrongs)
         for call in (missed_by, seen_below_marks):
             check_first_wrong(self, call, (("again", 2), 2, W, [4]), wrongs + [([-1], InvalidLooks, {})])

@@ -36,7 +36,8 @@ class InterfaceTest(unittest.TestCase):
 
     def test_arguments_stay_and_lists_are_new(self):
         for scheme in SCHEMES:
-            check_new_list(self, fullest_weaving, (scheme, 3, 2, 1), dict(zip(NAMES[fullest_weaving], (scheme, 3, 2, 1))))
+            arguments = (scheme, 3, 2, 1)
+            check_new_list(self, fullest_weaving, arguments, dict(zip(NAMES[fullest_weaving], arguments)))
         for weaving in [[], W, W[:1], W[:2], W[:3]]:
             for scheme in LOTS + POOLS:
                 by_name = {"scheme": scheme, "houses": 2, "weaving": list(weaving)}

@@ -36,7 +36,8 @@ def changes(words, others):
     for index, word in enumerate(words):
         rows.append(words[:index] + words[index + 1:])
         rows.append(words[:index] + [word, word] + words[index + 1:])
-        near = [other + word for other in "0+-1 "] + [word + other for other in "0 x\n"] + [word[1:], word[:-1], word.upper()]
+        near = [other + word for other in "0+-1 "] + [word + other for other in "0 x\n"]
+        near += [word[1:], word[:-1], word.upper()]
         rows.extend(words[:index] + [other] + words[index + 1:] for other in near + others)
     return rows
 

@@ -10,9 +10,11 @@ from holesleft.compare import parting_book, same_books, sizes_that_fit
 from holesleft.console import Console
 from holesleft.desks import BudgetDesk, Desk, ReadingBudgetDesk, ReadingDesk
 from holesleft.errors import HolesError, Refused
-from holesleft.falls import fewest_fails, fewest_falls, heard_along, houses_and_falls, unfinished_along, weaving_with_falls
+from holesleft.falls import fewest_fails, fewest_falls, heard_along, houses_and_falls, unfinished_along
+from holesleft.falls import weaving_with_falls
 from holesleft.readers import marks_along, missed_by, seen_below_marks
-from holesleft.risks import first_refused, fullest_weaving, kept_weaving, most_holes, refused_along, risk_of, worst_ending
+from holesleft.risks import first_refused, fullest_weaving, kept_weaving, most_holes, refused_along, risk_of
+from holesleft.risks import worst_ending
 from holesleft.runs import book_of, count_holes, frontier_of, holes_along, holes_of, lost_of, numbers_along
 from holesleft.runs import open_numbers_of, pending_of
 from holesleft.schemes import can_follow, deeds_of, is_weaving
@@ -57,8 +59,8 @@ LISTED = {
     "console": {"Console": ""},
 }
 ERRORS = {name: "" for name in """InvalidScheme InvalidHouses InvalidSize InvalidNumber InvalidDigits InvalidIndex
-    InvalidRule InvalidBudget InvalidFlag InvalidWish InvalidWishes InvalidLooks InvalidHouse InvalidEvent InvalidCommand
-    OpenDeed NoDeed NothingToUndo""".split()}
+    InvalidRule InvalidBudget InvalidFlag InvalidWish InvalidWishes InvalidLooks InvalidHouse InvalidEvent
+    InvalidCommand OpenDeed NoDeed NothingToUndo""".split()}
 ERRORS.update({"InvalidWeaving": "index", "InvalidNumbers": "index", "NotABook": "index", "Unseen": "index",
                "TooFewHouses": "least", "TooLong": "limit", "Refused": "amount", "InvalidText": "word"})
 LETTERS = {"take": "t", "end": "e", "fail": "f", "fall": "x"}
@@ -109,7 +111,8 @@ class SameTest(unittest.TestCase):
             self.assertEqual(called(desk, event), result)
             self.assertEqual(called(reader, event), result)
             answer = console.execute(f"{LETTERS[event[0]]} {event[1]}")
-            self.assertEqual(answer, "ok" if event[0] in ("fail", "fall") else "none" if result is None else str(result))
+            number = "none" if result is None else str(result)
+            self.assertEqual(answer, "ok" if event[0] in ("fail", "fall") else number)
             if index % 23 == 0:
                 self.assertEqual([desk.mark, reader.mark], [marks[index + 1]] * 2)
                 self.assertEqual(console.execute("mark"), str(marks[index + 1]))
@@ -266,7 +269,8 @@ class GuaranteesTest(unittest.TestCase):
             for other in SMALL_SCHEMES:
                 for one_houses, other_houses in [(1, 1), (1, 2), (2, 2), (2, 3)]:
                     told = (one, one_houses, other, other_houses)
-                    parted = [row for row in lists if is_book(one, one_houses, row) != is_book(other, other_houses, row)]
+                    parted = [row for row in lists
+                              if is_book(one, one_houses, row) != is_book(other, other_houses, row)]
                     book = parting_book(*told)
                     self.assertIs(same_books(*told), book is None)
                     if book is None:

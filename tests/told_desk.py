@@ -91,8 +91,9 @@ class ToldDesk:
 def some_calls(houses, many, seed, reads=True):
     """Return calls, as events of any kind, "undo" and "look"; some of them cannot happen."""
     source = random.Random(seed)
+    words = ["take"] * 7 + ["end"] * 5 + ["fail"] * 2 + ["fall", "undo", "undo"] + ["look"] * 2 * reads
     calls = []
     for _ in range(many):
-        word = source.choice(["take"] * 7 + ["end"] * 5 + ["fail"] * 2 + ["fall", "undo", "undo"] + ["look"] * 2 * reads)
+        word = source.choice(words)
         calls.append(word if word in ("undo", "look") else (word, source.randrange(houses)))
     return calls
